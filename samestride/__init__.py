@@ -1,0 +1,1 @@
+"""Samestride: one small language, five machines in step."""
