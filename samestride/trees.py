@@ -13,6 +13,9 @@ FORMS = {
     "<": (0, 2),
 }
 
+# An expression of more places than these is wide.
+WIDEST = 120
+
 
 def bound_names(E):
     if E[0] not in FORMS:
@@ -26,6 +29,29 @@ def parts_of(E):
     return E[1 + FORMS[E[0]][0]:]
 
 
+# All of the tuple that stands ahead of the expressions in it.
+def front_of(E):
+    if E[0] not in FORMS:
+        return E
+    return E[:1 + FORMS[E[0]][0]]
+
+
+def count_parts(front):
+    if front[0] not in FORMS:
+        return 0
+    return FORMS[front[0]][1]
+
+
+# The expression whose places have these fronts, in their order. Walked from the last one on, so that what stands in an
+# expression is there ahead of it, its first part uppermost.
+def built(fronts):
+    done = []
+    for front in reversed(fronts):
+        parts = [done.pop() for k in range(count_parts(front))]
+        done.append(front + tuple(parts))
+    return done[0]
+
+
 # A list of what waits, and no recursion: an expression may be as deep as it has places.
 def places(E):
     found = []
@@ -36,6 +62,10 @@ def places(E):
         for part in reversed(parts_of(place)):
             waiting.append(part)
     return found
+
+
+def is_wide(E):
+    return len(places(E)) > WIDEST
 
 
 # Level by level, for the same reason.

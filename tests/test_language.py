@@ -29,6 +29,8 @@ WORDS = re.compile(
     r"\b(type|typing|typing_extensions|enum|Enum|IntEnum|StrEnum|Flag|IntFlag|Generic|Protocol|ABC|ABCMeta"
     r"|namedtuple|NamedTuple|TypedDict|TYPE_CHECKING|abstractmethod)\b|dataclass|overload|contextmanager"
 )
+WALKED = ("zip", "enumerate", "reversed", "range", "items", "keys", "values")
+WALKERS = ("list", "tuple", "dict", "sorted", "sum", "any", "all", "enumerate", "zip", "join")
 NOWHERE = set("register mro elements open input version_info with_traceback add_note format format_map".split())
 
 
@@ -54,6 +56,20 @@ def bound_within(tree):
         if isinstance(node, (ast.FunctionDef, ast.ClassDef)):
             told.extend(n.id for n in ast.walk(node) if isinstance(n, ast.Name) and isinstance(n.ctx, ast.Store))
     return told
+
+
+# The name by which a function or a method is called; None of all else.
+def called_name(node):
+    if not isinstance(node, ast.Call):
+        return None
+    return getattr(node.func, "id", None) or getattr(node.func, "attr", None)
+
+
+def is_walked_by(parent, node):
+    name = called_name(parent)
+    if name in ("min", "max"):
+        return parent.args == [node]
+    return name in WALKERS and parent.args[:1] == [node]
 
 
 class Language(unittest.TestCase):
@@ -178,6 +194,14 @@ class Language(unittest.TestCase):
         for where, path, node in self.nodes():
             if isinstance(node, ast.Compare) and any(isinstance(op, (ast.Is, ast.IsNot)) for op in node.ops):
                 self.assertIn(repr(getattr(node.comparators[0], "value", 0)), ("None", "True", "False"), where)
+
+    def test_l23_walked_at_once(self):
+        for path, text, tree in self.each():
+            for parent in ast.walk(tree):
+                for node in ast.iter_child_nodes(parent):
+                    if called_name(node) in WALKED:
+                        where = f"{path.name}:{node.lineno}"
+                        self.assertTrue(getattr(parent, "iter", None) is node or is_walked_by(parent, node), where)
 
     def test_l25_methods(self):
         own = {node.name for where, path, node in self.nodes() if isinstance(node, ast.FunctionDef)}

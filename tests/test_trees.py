@@ -3,6 +3,7 @@
 import random
 import unittest
 
+from oracle import PAIRS, WORKINGS, chain, told_free, told_places
 from samestride.trees import free_names, places
 
 ONE = ("num", 1)
@@ -13,38 +14,6 @@ B = ("name", "b")
 F = ("name", "f")
 X = ("name", "x")
 Y = ("name", "y")
-WORKINGS = ("+", "-", "*", "<")
-PAIRS = ("call",) + WORKINGS
-
-
-def chain(wrap, length, last):
-    E = last
-    for k in range(length):
-        E = wrap(E)
-    return E
-
-
-# The document's own words, once more and by recursion.
-def told_places(E):
-    told = [E]
-    for part in E[1:]:
-        if isinstance(part, tuple):
-            told.extend(told_places(part))
-    return told
-
-
-def told_free(E):
-    if E[0] == "name":
-        return {E[1]}
-    told = set()
-    for part in E[1:]:
-        if isinstance(part, tuple):
-            told |= told_free(part)
-    if E[0] == "fn":
-        told -= {E[1]}
-    if E[0] == "rec":
-        told -= {E[1], E[2]}
-    return told
 
 
 def some_expression(chance, deep):
