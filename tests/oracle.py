@@ -129,6 +129,42 @@ def told_thing(thing):
     return thing if thing[0] == "num" else told_around(thing[1], thing[2])
 
 
+# The code [24]: marks stand for rows' numbers at first, in rows that lead there and ahead of the rows that they mark.
+
+def told_code(E):
+    functions = []
+    marks = itertools.count()
+
+    def coded(E, names, last):
+        if E[0] == "num":
+            return [E]
+        if E[0] == "name":
+            return [("fetch", names.index(E[1]))]
+        if E[0] in ("fn", "rec"):
+            own = (E[1],) if E[0] == "fn" else (E[2], E[1])
+            mark = ("mark", next(marks))
+            number = len(functions)
+            functions.append(None)
+            functions[number] = [mark] + coded(E[-1], own + names, True) + [("back",)]
+            return [("close", mark, own)]
+        if E[0] == "if":
+            L, J = ("mark", next(marks)), ("mark", next(marks))
+            rows = coded(E[1], names, False) + [("unless", L)] + coded(E[2], names, last) + [("jump", J), L]
+            return rows + coded(E[3], names, last) + [J]
+        own = ("work", E[0]) if E[0] in WORKINGS else ("hop",) if last else ("call",)
+        return coded(E[1], names, False) + coded(E[2], names, False) + [own]
+
+    rows = coded(E, (), False) + [("end",)]
+    for function in functions:
+        rows += function
+    found = {}
+    for row in rows:
+        if row[0] == "mark":
+            found[row] = len([ahead for ahead in rows[:rows.index(row)] if ahead[0] != "mark"])
+    return [tuple(found[part] if isinstance(part, tuple) and part in found else part for part in row)
+            for row in rows if row[0] != "mark"]
+
+
 # Programs.
 
 # An expression without free names and of just so many places, none of them deep.
@@ -267,6 +303,20 @@ def all_of_places(count, bound):
 
 def small_programs():
     return [E for count in range(1, 6) for E in all_of_places(count, ())]
+
+
+# Each form as deep or as long as 120 places let it be.
+def great_programs():
+    x, one, two = name("x"), num(1), num(2)
+    own = ("fn", "x", x)
+    return [
+        tree_of(120), tree_of(119), function_of(120), ("+", ("+", one, two), function_of(116)),
+        chain(lambda E: ("+", E, one), 59, two), chain(lambda E: ("+", one, E), 59, two),
+        chain(lambda E: ("fn", "x", E), 119, x), chain(lambda E: ("rec", "f", "x", E), 119, x),
+        chain(lambda E: ("call", E, one), 59, own), chain(lambda E: ("call", own, E), 39, own),
+        chain(lambda E: ("if", E, one, two), 39, own), chain(lambda E: ("if", one, E, two), 39, own),
+        chain(lambda E: ("if", one, two, E), 39, own),
+    ]
 
 
 def many_programs():

@@ -29,6 +29,7 @@ WORDS = re.compile(
     r"\b(type|typing|typing_extensions|enum|Enum|IntEnum|StrEnum|Flag|IntFlag|Generic|Protocol|ABC|ABCMeta"
     r"|namedtuple|NamedTuple|TypedDict|TYPE_CHECKING|abstractmethod)\b|dataclass|overload|contextmanager"
 )
+VALUES_LIKE_METHODS = set("count index title find get join lower upper split strip copy add".split())
 WALKED = ("zip", "enumerate", "reversed", "range", "items", "keys", "values")
 WALKERS = ("list", "tuple", "dict", "sorted", "sum", "any", "all", "enumerate", "zip", "join")
 NOWHERE = set("register mro elements open input version_info with_traceback add_note format format_map".split())
@@ -166,6 +167,30 @@ class Language(unittest.TestCase):
                 self.assertLessEqual(len(node.bases), 1, where)
                 for inner in node.body:
                     self.assertIsInstance(inner, (ast.FunctionDef, ast.Pass, ast.Expr), where)
+
+    # Values may be called like a few of Python's own methods; methods like those of L25.
+    def test_l18_l26_methods_and_values(self):
+        methods, values = set(), set()
+        for where, path, node in self.nodes():
+            if isinstance(node, ast.ClassDef):
+                told = [inner.name for inner in node.body if isinstance(inner, ast.FunctionDef)]
+                self.assertEqual(sorted(set(told)), sorted(told), where)
+                methods.update(told)
+            if isinstance(node, ast.Attribute) and isinstance(node.ctx, ast.Store):
+                values.add(node.attr)
+        taken = set().union(*(dir(kind) for kind in (str, int, list, dict, set, bytes)))
+        self.assertEqual(methods & values, set())
+        self.assertEqual(values & taken - VALUES_LIKE_METHODS, set())
+        self.assertEqual(methods & taken - METHODS - DUNDERS - {"add", "discard"}, set())
+
+    # What a function within a function reads from around it is not assigned there.
+    def test_l4_functions_within(self):
+        for where, path, node in self.nodes():
+            if isinstance(node, (ast.FunctionDef, ast.Lambda)):
+                for inner in ast.walk(node):
+                    if inner is not node and isinstance(inner, ast.FunctionDef):
+                        self.assertIsNone(inner.returns, where)
+                        self.assertEqual([n for n in ast.walk(inner) if isinstance(n, ast.AugAssign)], [], where)
 
     def test_l8_l12_l17_names(self):
         for where, path, node in self.nodes():

@@ -2,57 +2,17 @@
 
 import unittest
 
+from machines import MACHINES, coded_begun, coded_step
 from oracle import (
-    at_once, chain, count_places, function_of, kinded_programs, many_programs, name, num, told_around, told_row, told_step,
-    told_walk, tree_of,
+    at_once, count_places, function_of, great_programs, kinded_programs, many_programs, name, num, told_around, told_row,
+    told_step, told_walk,
 )
-from samestride.around import rows_begun, rows_left, rows_read, rows_step
-from samestride.dump import dump_begun, dump_left, dump_read, dump_step
 from samestride.errors import StrideError, Wide
-from samestride.graph import graph_begun, graph_read, graph_step
 from samestride.terms import row_of
 from samestride.texts import read, shown
 
-ONE, TWO = num(1), num(2)
 X = name("x")
 ID = ("fn", "x", X)
-
-
-# A machine by its name; the graph has no measure, as it has no quiet steps.
-class Machine:
-    def __init__(self, called, begun, step, read_back, left):
-        self.called = called
-        self.begun = begun
-        self.step = step
-        self.read_back = read_back
-        self.left = left
-
-    # The states up to the one behind so many loud steps and those that follow it quietly.
-    def walk(self, E, most):
-        return told_walk(self.begun(E), self.step, most)
-
-    # The first state behind so many loud steps.
-    def behind(self, E, loud):
-        state = self.begun(E)
-        while loud:
-            answer = self.step(state)
-            state = answer[1]
-            loud -= answer[0] == "loud"
-        return state
-
-    def is_wide(self, state):
-        try:
-            self.read_back(state)
-        except Wide:
-            return True
-        return False
-
-
-MACHINES = (
-    Machine("rows", rows_begun, rows_step, rows_read, rows_left),
-    Machine("dump", dump_begun, dump_step, dump_read, dump_left),
-    Machine("graph", graph_begun, graph_step, graph_read, None),
-)
 
 
 class InStep(unittest.TestCase):
@@ -81,6 +41,8 @@ class InStep(unittest.TestCase):
             self.assertNotEqual(how, "quiet", where)
         if machine.called == "rows":
             self.assertLess(len(state[-1]), count_places(machine.read_back(state)), where)
+        if machine.called == "code":
+            self.assertLessEqual(len(state[1][3]), count_places(machine.read_back(state)), where)
 
     def check_end(self, machine, last, word, where):
         if word in ("value", "stuck"):
@@ -105,6 +67,34 @@ class InStep(unittest.TestCase):
                            ("call rec f n + n call f + n 1 0", 1000), ("call rec f n call f + n 1 0", 200)):
             self.assertEqual(row_of(read(text), most), told_row(read(text), most))
             self.check(read(text), most)
+
+
+# The pile of the code's machine [3].
+class Pile(unittest.TestCase):
+    def piles(self, text, most):
+        walk = told_walk(coded_begun(read(text)), coded_step, most)[0]
+        return [len(pair[1][3]) for how, pair in walk]
+
+    def test_a_loop_whose_call_comes_last(self):
+        for text in ("call rec f n call f + n 1 0", "call rec f n if n call f - n 1 7 300",
+                     "call rec f n if < n 300 call f + n 1 n 0", "call rec f n if n if 1 call f - n 1 2 3 300",
+                     "call rec f n if n if 0 1 call f - n 1 3 300", "call rec f n call fn x call f x n 0",
+                     "call fn w call w w fn w call w w", "call call fn g rec f n if n call f - n 1 call g n fn x x 300"):
+            self.assertEqual(max(self.piles(text, 900)), 1, text)
+
+    # The inner call does not come last, but it is back ahead of the outer one.
+    def test_a_loop_of_two_arguments(self):
+        self.assertEqual(max(self.piles("call call rec f n fn m if n call call f - n 1 m m 300 7", 900)), 2)
+
+    def test_a_call_of_the_program_is_on_the_pile(self):
+        self.assertEqual(max(self.piles("if call fn x x 1 call fn x x 2 call fn x x 3", 9)), 1)
+        self.assertEqual(max(self.piles("+ 1 2", 9)), 0)
+
+    def test_calls_that_do_not_come_last_heap_up(self):
+        for text in ("call rec f n if n + 1 call f - n 1 0 20", "call rec f n if n + call f - n 1 1 0 20",
+                     "call rec f n if n call fn x x call f - n 1 0 20", "call rec f n if n if call f - n 1 2 3 0 20",
+                     "call rec f n if n call call f - n 1 0 fn x x 20", "call rec f n if n + 1 if 1 call f - n 1 2 0 20"):
+            self.assertGreater(max(self.piles(text, 999)), 20, text)
 
 
 class Bound(unittest.TestCase):
@@ -145,14 +135,10 @@ class Bound(unittest.TestCase):
 
     def test_a_program_of_120_places(self):
         for machine in MACHINES:
-            for E in (tree_of(120), tree_of(119), function_of(120), ("+", ("+", ONE, TWO), function_of(116)),
-                      chain(lambda E: ("+", E, ONE), 59, TWO), chain(lambda E: ("+", ONE, E), 59, TWO),
-                      chain(lambda E: ("fn", "x", E), 119, X), chain(lambda E: ("rec", "f", "x", E), 119, X),
-                      chain(lambda E: ("call", E, ONE), 59, ID), chain(lambda E: ("call", ID, E), 39, ID),
-                      chain(lambda E: ("if", E, ONE, TWO), 39, ID)):
+            for E in great_programs():
                 for how, state in machine.walk(E, 0)[0]:
                     self.assertTrue(machine.read_back(state) == E)
-                if machine.left:
+                if machine.called in ("rows", "dump"):
                     self.assertEqual(machine.left(machine.begun(E)), 2 * count_places(E))
 
 
